@@ -1,0 +1,1 @@
+"""Gateslack: how late and how early signals come."""

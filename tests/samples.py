@@ -1,0 +1,101 @@
+"""Things that several tests hand in."""
+
+import random
+
+D = ((1, 2),)
+
+GOOD = (
+    ("a", "b"),
+    (
+        ("g", "and", ("a", "r"), ((3, 5), (2, 4))),
+        ("h", "not", ("g",), ((1, 1), (0, 2))),
+        ("k", "xor", ("a", "b", "h"), ((0, 9), (7, 7))),
+    ),
+    (("r", "h", 3, 1, -20, 30), ("s", "s", 0, 0, 0, 0)),
+    (("o", "k"), ("p", "a")),
+)
+
+# Next behind y is x, which stands ahead of z.
+BACKWARD = (
+    ("a",),
+    (("x", "not", ("y",), D), ("y", "not", ("a",), D), ("z", "not", ("a",), D)),
+    (),
+    (("o", "x"),),
+)
+
+# Ways to the gates: 3, 5, 9, 17, 31.
+MANY_WAYS = (
+    ("e", "and", ("a", "b", "c"), D),
+    ("f", "and", ("a", "b", "e"), D),
+    ("g", "and", ("a", "e", "f"), D),
+    ("h", "and", ("e", "f", "g"), D),
+    ("i", "and", ("f", "g", "h"), D),
+)
+SIXTY = (("a", "b", "c"), MANY_WAYS, (), (("m", "i"), ("n", "h"), ("o", "g"), ("p", "e")))
+SIXTY_ONE = (SIXTY[0], MANY_WAYS, (("r", "a", 0, 0, 0, 0),), SIXTY[3])
+
+
+class Equal:
+    """Calls itself equal to anything."""
+
+    def __eq__(self, other):
+        return True
+
+    def __hash__(self):
+        return hash("a")
+
+
+def deep(many=3000, *, kind=tuple):
+    """A thing so many deep."""
+    thing = kind()
+    for _ in range(many):
+        thing = {0: thing} if kind is dict else kind((thing,))
+    return thing
+
+
+def no_names():
+    """Things of many kinds that are no NAMES."""
+    texts = ["", "A", "aB", "a1", "1", "a b", " a", "a\n", "\n", "a_", "-", "{", "`", "abcdefghi", "a" * 12000]
+    texts += ["\u00e9", "\u00df", "\u0430", "\u00aa", "a\u0301", "\uff41", "\x00", "\ud800", "%", "not ", "True"]
+    return texts + no_texts()
+
+
+def no_texts():
+    """Things of many kinds that are no texts."""
+    plain = [None, True, False, 0, 1, -1, 10**5000, -(10**5000), b"a", (), ("a",), [], ["a"], {}, {"a": 1}, {"a"}]
+    return plain + [Equal(), object(), str, len, range(3), deep(), deep(kind=list), deep(kind=dict)]
+
+
+def no_tuples():
+    """Things of many kinds that are no tuples."""
+    others = [thing for thing in no_texts() if type(thing) is not tuple]
+    return others + ["", "abcd", [(), (), (), ()], [("a",), (), (), ()], list(GOOD), {0: 1, 1: 2, 2: 3, 3: 4}]
+
+
+def no_wholes():
+    """Things of many kinds that are whole numbers nowhere."""
+    return [thing for thing in no_texts() if type(thing) is not int] + ["0", "1", "", "a"]
+
+
+def random_netlist(seed):
+    """Parts put together by a seed, each GATE fed by STARTS and those made ahead of it, then shuffled."""
+    dice = random.Random(seed)
+    letters = list("abcdefghijklmnopqrstuvwxyz")
+    dice.shuffle(letters)
+    inputs = tuple(letters.pop() for _ in range(dice.randint(1, 4)))
+    register_names = [letters.pop() for _ in range(dice.randint(0, 2))]
+    signals = list(inputs) + register_names
+    corners = dice.randint(1, 3)
+    gates = []
+    for _ in range(dice.randint(0, 7)):
+        kind = dice.choice(("not", "and", "nand", "or", "nor", "xor"))
+        many = 1 if kind == "not" else min(len(signals), dice.randint(2, 3))
+        if kind != "not" and many < 2:
+            kind, many = "not", 1
+        delays = tuple(tuple(sorted((dice.randint(0, 999), dice.randint(0, 999)))) for _ in range(corners))
+        gates.append((letters.pop(), kind, tuple(dice.sample(signals, many)), delays))
+        signals.append(gates[-1][0])
+    dice.shuffle(gates)
+    registers = tuple((name, dice.choice(signals), 1, 2, -3, 4) for name in register_names)
+    outputs = tuple((letters.pop(), dice.choice(signals)) for _ in range(dice.randint(0, 4)))
+    return (inputs, tuple(gates), registers, outputs)

@@ -1,0 +1,64 @@
+import ast
+import importlib
+import inspect
+import unittest
+from pathlib import Path
+
+PACKAGE = Path(__file__).resolve().parent.parent / "gateslack"
+
+SIGNATURES = {
+    "words": {
+        "is_whole": "(thing, *, least=0, most=999)",
+        "is_name": "(thing)",
+        "number_in": "(word, *, least=0, most=999)",
+    },
+    "netlist": {
+        "is_netlist": "(thing)",
+        "need_netlist": "(thing)",
+        "starts_of": "(netlist)",
+        "ends_of": "(netlist)",
+        "order_of": "(netlist)",
+        "corners_of": "(netlist)",
+        "pins_of": "(netlist, name)",
+        "fed_by": "(netlist, name)",
+        "cone_of": "(netlist, name)",
+        "paths_of": "(netlist, *, start=None, end=None)",
+        "is_path": "(netlist, thing)",
+        "many_paths": "(netlist)",
+    },
+}
+
+
+class InterfaceTest(unittest.TestCase):
+    def test_functions_are_defined_where_they_are_listed(self):
+        for file, functions in SIGNATURES.items():
+            module = importlib.import_module(f"gateslack.{file}")
+            for name, signature in functions.items():
+                function = getattr(module, name)
+                self.assertEqual(function.__module__, module.__name__)
+                self.assertEqual(str(inspect.signature(function)), signature, name)
+
+
+class FileTest(unittest.TestCase):
+    def test_the_folder_holds_plain_files_alone(self):
+        for path in PACKAGE.iterdir():
+            if path.name != "__pycache__":
+                self.assertEqual(path.suffix, ".py", path)
+
+    def test_sizes_and_signs(self):
+        for path in PACKAGE.glob("*.py"):
+            lines = path.read_text(encoding="utf-8").split("\n")
+            self.assertLessEqual(len(lines), 399, path)
+            for line in lines:
+                self.assertLessEqual(len(line), 120, path)
+                self.assertTrue(all(" " <= sign <= "~" for sign in line), path)
+
+    def test_functions_have_at_most_forty_lines(self):
+        for path in PACKAGE.glob("*.py"):
+            for node in ast.walk(ast.parse(path.read_text(encoding="utf-8"))):
+                if isinstance(node, ast.FunctionDef):
+                    self.assertLessEqual(node.end_lineno - node.lineno + 1, 40, node.name)
+
+
+if __name__ == "__main__":
+    unittest.main()
