@@ -29,6 +29,11 @@ def are_pins(thing, least, most):
     return all([is_name(name) for name in thing]) and len(set(thing)) == len(thing)
 
 
+def bounds_of_pins(kind):
+    """How many PINS a GATE of that KIND has at least, and at most."""
+    return (1, 1) if kind == "not" else (2, 3)
+
+
 def is_delay(thing):
     """Whether anything is a pair (EARLY, LATE)."""
     return is_tuple(thing, 2, 2) and is_whole(thing[0]) and is_whole(thing[1], least=thing[0])
@@ -51,7 +56,7 @@ def is_gate(thing):
     name, kind, pins, delays = thing
     if not (is_name(name) and is_one_of(kind, KINDS)):
         return False
-    least, most = (1, 1) if kind == "not" else (2, 3)
+    least, most = bounds_of_pins(kind)
     return are_pins(pins, least, most) and are_delays(delays)
 
 
@@ -157,6 +162,12 @@ def signals_of(netlist):
     return starts_of(netlist) + names_of(netlist[1])
 
 
+def need_signal(netlist, name):
+    """None of a START or GATE; NoSignal of anything else."""
+    if not is_one_of(name, signals_of(netlist)):
+        raise NoSignal(name)
+
+
 def corners_of(netlist):
     """How many CORNERS there are."""
     gates = netlist[1]
@@ -204,8 +215,7 @@ def pins_of(netlist, name):
 
 def fed_by(netlist, name):
     """The NAMES of GATES, then of ENDS, that a START or GATE feeds; NoSignal of all else."""
-    if not is_one_of(name, signals_of(netlist)):
-        raise NoSignal(name)
+    need_signal(netlist, name)
     feeders = feeders_of(netlist)
     return [fed for fed in feeders if name in feeders[fed]]
 

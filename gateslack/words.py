@@ -1,6 +1,10 @@
 """Whole numbers and NAMES, and whole numbers that a text writes."""
 
 MOST = 999
+# The bounds of a CLOCK: its PERIOD, its SKEWS, which go as far below 0, and how many these are.
+LONGEST_PERIOD = 99999
+MOST_SKEW = 9999
+MOST_SKEWS = 4
 LOWEST_WRITTEN = -9999
 HIGHEST_WRITTEN = 99999
 MOST_FIGURES = 5

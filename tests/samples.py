@@ -15,6 +15,30 @@ GOOD = (
     (("o", "k"), ("p", "a")),
 )
 
+# As text, GOOD.
+LINES = [
+    "input a",
+    "input b",
+    "gate g and a r / 3 5 / 2 4",
+    "gate h not g / 1 1 / 0 2",
+    "gate k xor a b h / 0 9 / 7 7",
+    "register r h 3 1 -20 30",
+    "register s s 0 0 0 0",
+    "output o k",
+    "output p a",
+]
+
+# One of each word, and their lines.
+EDITS = (
+    ("delays", "g", ((3, 5), (2, 4))),
+    ("gate", "g", "and", ("a", "b")),
+    ("data", "r", "g"),
+    ("checks", "r", 3, 1, -20, 30),
+    ("skew", "r", -4),
+    ("period", 100),
+)
+EDIT_LINES = ["delays g / 3 5 / 2 4", "gate g and a b", "data r g", "checks r 3 1 -20 30", "skew r -4", "period 100"]
+
 # Next behind y is x, which stands ahead of z.
 BACKWARD = (
     ("a",),

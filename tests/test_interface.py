@@ -26,6 +26,43 @@ SIGNATURES = {
         "is_path": "(netlist, thing)",
         "many_paths": "(netlist)",
     },
+    "showing": {
+        "netlist_text": "(netlist, *, sign='\\n')",
+        "clock_text": "(clock)",
+        "edit_text": "(edit)",
+        "edits_text": "(edits, *, sign='\\n')",
+        "path_text": "(path)",
+        "filling_text": "(filling)",
+        "cases_text": "(cases)",
+        "ring_text": "(ring)",
+        "fraction_text": "(fraction)",
+    },
+    "reading": {
+        "netlist_in": "(text, *, first=1)",
+        "clock_in": "(text, *, first=1)",
+        "edit_in": "(text, *, first=1)",
+        "edits_in": "(text, *, first=1)",
+        "path_in": "(text, *, first=1)",
+        "filling_in": "(text, *, first=1)",
+        "cases_in": "(text, *, first=1)",
+        "ring_in": "(text, *, first=1)",
+    },
+    "values": {
+        "need_filling": "(netlist, thing, *, partial=False)",
+        "decided_of": "(netlist, filling)",
+        "fillings": "(netlist)",
+        "table_of": "(netlist, name)",
+        "hangs_on": "(netlist, name)",
+        "unlike_by": "(netlist, one, other)",
+        "filling_for": "(netlist, wants, *, filling=None)",
+    },
+}
+
+VALUES = {
+    "words": {"MOST": 999},
+    "netlist": {"KINDS": ("not", "and", "nand", "or", "nor", "xor"), "MOST_PATHS": 60},
+    "showing": {"LINE": "\n"},
+    "reading": {"FIRST": 1},
 }
 
 
@@ -37,6 +74,13 @@ class InterfaceTest(unittest.TestCase):
                 function = getattr(module, name)
                 self.assertEqual(function.__module__, module.__name__)
                 self.assertEqual(str(inspect.signature(function)), signature, name)
+
+
+    def test_values_stand_where_they_are_listed(self):
+        for file, values in VALUES.items():
+            module = importlib.import_module(f"gateslack.{file}")
+            for name, value in values.items():
+                self.assertEqual((type(getattr(module, name)), getattr(module, name)), (type(value), value), name)
 
 
 class FileTest(unittest.TestCase):

@@ -1,9 +1,12 @@
 import copy
 import unittest
 
-from gateslack.errors import BadNetlist, NoEnd, NoSignal
+from gateslack.errors import BadFilling, BadNetlist, BadText, NoEnd, NoSignal
 from gateslack.netlist import cone_of, corners_of, ends_of, fed_by, is_netlist, is_path, many_paths, need_netlist
 from gateslack.netlist import order_of, paths_of, pins_of, starts_of
+from gateslack.reading import cases_in, clock_in, edit_in, edits_in, filling_in, netlist_in, path_in, ring_in
+from gateslack.showing import cases_text, clock_text, edit_text, edits_text, filling_text, netlist_text, ring_text
+from gateslack.values import decided_of, filling_for, fillings, hangs_on, need_filling, table_of, unlike_by
 from gateslack.words import is_name, is_whole, number_in
 from samples import BACKWARD, D, GOOD, SIXTY, random_netlist
 
@@ -17,7 +20,24 @@ def all_told(netlist):
     told += [ask(netlist, name) for ask in (pins_of, cone_of) for name in gates + ends_of(netlist)]
     told += [paths_of(netlist, start=start) for start in starts_of(netlist)]
     told += [paths_of(netlist, end=end) for end in ends_of(netlist)]
-    return told + [is_path(netlist, path) for path in paths_of(netlist)]
+    told += [is_path(netlist, path) for path in paths_of(netlist)]
+    return told + texts_told(netlist) + values_told(netlist)
+
+
+def texts_told(netlist):
+    """What is shown of a NETLIST, and read back."""
+    text = netlist_text(netlist)
+    return [text, netlist_text(netlist, sign="; "), netlist_in(text), netlist_in(text, first=9)]
+
+
+def values_told(netlist):
+    """All that the values of a NETLIST are told by."""
+    names = starts_of(netlist) + order_of(netlist)
+    told = [fillings(netlist), [need_filling(netlist, filling) for filling in fillings(netlist)]]
+    told += [ask(netlist, name) for ask in (table_of, hangs_on) for name in names]
+    told += [unlike_by(netlist, names[0], name) for name in names]
+    told += [filling_for(netlist, ((name, 1),)) for name in names]
+    return told + [decided_of(netlist, filling) for filling in fillings(netlist)]
 
 
 class HandedInTest(unittest.TestCase):
@@ -58,6 +78,48 @@ class HandedInTest(unittest.TestCase):
             self.assertIsNone(number_in(thing))
             self.assertEqual(thing, ahead)
 
+    def test_no_fillings_are_not_changed(self):
+        for thing in (["a", 1], [("a", 1)], {"a": 1}, (["a", 1],), ([0], 0, 0, 0), [0, 0, 0, 0]):
+            ahead = copy.deepcopy(thing)
+            for ask in (need_filling, decided_of, filling_for):
+                with self.assertRaises(BadFilling):
+                    ask(GOOD, thing)
+            with self.assertRaises(BadFilling):
+                filling_for(GOOD, (), filling=thing)
+            self.assertEqual(thing, ahead)
+
+    def test_no_texts_are_not_changed(self):
+        for thing in (["clock 5"], {"clock": 5}, bytearray(b"clock 5"), (["clock 5"],)):
+            ahead = copy.deepcopy(thing)
+            for read in (netlist_in, clock_in, edit_in, edits_in, path_in, filling_in, cases_in, ring_in):
+                with self.assertRaises(BadText):
+                    read(thing)
+            self.assertEqual(thing, ahead)
+
+    def test_what_is_shown_is_not_changed(self):
+        cut = ("cut", "g", "b")
+        for show, thing in (
+            (clock_text, (5, (1, 2))),
+            (edit_text, ("gate", "g", "and", ("a", "b"))),
+            (edits_text, [("delays", "g", ((1, 2), (3, 4))), ("period", 5)]),
+            (filling_text, (0, None, 1)),
+            (cases_text, ("ask", "a", cut, ("ask", "b", cut, cut))),
+            (ring_text, (("late", ("a", "g", "r"), 0), ("high", "r"))),
+        ):
+            ahead = copy.deepcopy(thing)
+            self.assertEqual(show(thing), show(thing))
+            self.assertEqual(thing, ahead)
+
+    def test_wants_are_not_kept(self):
+        edits = [("period", 5)]
+        self.assertEqual(edits_text(edits), "period 5")
+        edits.append(("period", 6))
+        self.assertEqual(edits_text(edits), "period 5\nperiod 6")
+        wants = (("g", 1),)
+        self.assertEqual(filling_for(GOOD, wants, filling=(None, 1, None, None)), (1, 1, 1, 0))
+        self.assertEqual(filling_for(GOOD, wants), (1, 0, 1, 0))
+        self.assertEqual(wants, (("g", 1),))
+
     def test_nothing_is_kept(self):
         gate = ["g", "not", ("a",), D]
         for name, good in (("g", True), ("a", False), ("g", True)):
@@ -73,13 +135,26 @@ class ToldTest(unittest.TestCase):
             self.assertEqual(all_told(netlist), all_told(netlist))
 
     def test_a_told_list_is_the_askers_own(self):
-        for ask in (lambda: paths_of(GOOD), lambda: paths_of(GOOD, start="a", end="o"), lambda: fed_by(GOOD, "a")):
+        for ask in (
+            lambda: paths_of(GOOD),
+            lambda: paths_of(GOOD, start="a", end="o"),
+            lambda: fed_by(GOOD, "a"),
+            lambda: fillings(GOOD),
+            lambda: hangs_on(GOOD, "k"),
+        ):
             told = ask()
             ahead = list(told)
             self.assertIsNot(ask(), told)
             told.append("more")
             del told[0]
             self.assertEqual(ask(), ahead)
+
+    def test_a_told_dict_is_the_askers_own(self):
+        told = decided_of(GOOD, (0, 1, 0, 1))
+        ahead = dict(told)
+        told["a"] = 5
+        del told["k"]
+        self.assertEqual(decided_of(GOOD, (0, 1, 0, 1)), ahead)
 
     def test_a_told_list_stays_as_it_is(self):
         told = paths_of(GOOD)
