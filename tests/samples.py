@@ -2,6 +2,8 @@
 
 import random
 
+from gateslack.netlist import is_netlist
+
 D = ((1, 2),)
 
 GOOD = (
@@ -57,6 +59,43 @@ MANY_WAYS = (
 )
 SIXTY = (("a", "b", "c"), MANY_WAYS, (), (("m", "i"), ("n", "h"), ("o", "g"), ("p", "e")))
 SIXTY_ONE = (SIXTY[0], MANY_WAYS, (("r", "a", 0, 0, 0, 0),), SIXTY[3])
+
+
+# One CORNER, one START, and two GATES of which each is 0 by all FILLINGS: no PATH that leads on is TRUE.
+STILL = (
+    ("n", "not", ("a",), ((1, 3),)),
+    ("y", "and", ("a", "n"), ((1, 2),)),
+    ("z", "nor", ("a", "n"), ((2, 2),)),
+    ("g", "and", ("y", "z"), ((0, 5),)),
+)
+NO_TRUE = (("a",), STILL, (("r", "g", 1, 1, -5, 5),), (("o", "g"),))
+
+# What comes from a gets through g by b's 1 alone, through h by its 0 alone.
+HALF_TRUE = (
+    ("a", "b", "c"),
+    (("g", "and", ("a", "b"), ((2, 7),)), ("h", "nor", ("g", "b"), ((1, 4),)), ("k", "xor", ("h", "c"), ((3, 3),))),
+    (),
+    (("o", "k"), ("p", "h")),
+)
+
+NO_GATES = (("a", "b"), (), (("r", "a", 0, 0, 0, 0),), ())
+NO_REGISTERS = (("a",), (("g", "not", ("a",), ((2, 3), (0, 9))),), (), (("o", "g"), ("p", "a")))
+NO_ENDS = (("a",), (("g", "not", ("a",), D),), (), ())
+
+# Two registers in a ring, one on itself, at three CORNERS.
+THREE = (
+    ("a",),
+    (("g", "nand", ("r", "a"), ((3, 5), (1, 2), (4, 9))), ("h", "xor", ("s", "r"), ((1, 8), (0, 1), (7, 7)))),
+    (("r", "h", 3, 1, -20, 30), ("s", "g", 2, 4, -10, 0)),
+    (("o", "h"),),
+)
+
+SIX_STARTS = (
+    ("a", "b", "c", "d"),
+    (("g", "or", ("a", "b", "c"), ((1, 5),)), ("h", "nand", ("g", "d", "r"), ((2, 6),)), ("k", "xor", ("h", "s"), D)),
+    (("r", "k", 5, 2, -9, 9), ("s", "s", 0, 0, -3, 4)),
+    (("o", "h"), ("p", "d")),
+)
 
 
 class Equal:
@@ -123,3 +162,40 @@ def random_netlist(seed):
     registers = tuple((name, dice.choice(signals), 1, 2, -3, 4) for name in register_names)
     outputs = tuple((letters.pop(), dice.choice(signals)) for _ in range(dice.randint(0, 4)))
     return (inputs, tuple(gates), registers, outputs)
+
+
+def random_clocked(seed):
+    """A good NETLIST by a seed, with up to four REGISTERS, of which some PATHS are FALSE in most."""
+    dice = random.Random(f"clocked {seed}")
+    letters = list("abcdefghijklmnopqrstuvwxyz")
+    dice.shuffle(letters)
+    many = dice.randint(0, 4)
+    inputs = tuple(letters.pop() for _ in range(dice.randint(0 if many else 1, min(5, 6 - many))))
+    names = [letters.pop() for _ in range(many)]
+    signals = list(inputs) + names
+    corners = dice.randint(1, 3)
+    gates = []
+    for _ in range(dice.randint(0, 9)):
+        kind = dice.choice(("not", "and", "nand", "or", "nor", "xor") if len(signals) > 1 else ("not",))
+        pins = 1 if kind == "not" else min(len(signals), dice.randint(2, 3))
+        delays = tuple(tuple(sorted((dice.randint(0, 40), dice.randint(0, 40)))) for _ in range(corners))
+        gates.append((letters.pop(), kind, tuple(dice.sample(signals, pins)), delays))
+        signals.append(gates[-1][0])
+    dice.shuffle(gates)
+    checks = [(dice.randint(0, 9), dice.randint(0, 9), -dice.randint(0, 30), dice.randint(0, 30)) for _ in names]
+    registers = tuple((name, dice.choice(signals[-5:]), *row) for name, row in zip(names, checks))
+    outputs = tuple((letters.pop(), dice.choice(signals[-5:])) for _ in range(dice.randint(0, 4)))
+    netlist = (inputs, tuple(gates), registers, outputs)
+    return netlist if is_netlist(netlist) else random_clocked(f"{seed}, once more")
+
+
+def random_clock(netlist, seed):
+    """A CLOCK by a seed."""
+    dice = random.Random(f"clock {seed}")
+    return (dice.randint(1, 150), tuple(dice.randint(-40, 40) for _ in netlist[2]))
+
+
+def some_netlists(many=40):
+    """NETLISTS of many kinds."""
+    named = [GOOD, BACKWARD, SIXTY, NO_TRUE, HALF_TRUE, NO_GATES, NO_REGISTERS, NO_ENDS, THREE, SIX_STARTS]
+    return named + [random_clocked(seed) for seed in range(many)]

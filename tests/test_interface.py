@@ -56,6 +56,45 @@ SIGNATURES = {
         "unlike_by": "(netlist, one, other)",
         "filling_for": "(netlist, wants, *, filling=None)",
     },
+    "truth": {
+        "side_pins": "(netlist, path)",
+        "does_open": "(netlist, path, filling)",
+        "openings": "(netlist, path)",
+        "opening": "(netlist, path)",
+        "is_true": "(netlist, path)",
+        "true_paths": "(netlist, *, start=None, end=None)",
+        "cases_of": "(netlist, path)",
+        "are_cases": "(netlist, path, thing)",
+        "need_cases": "(netlist, path, thing)",
+    },
+    "slack": {
+        "is_clock": "(netlist, thing)",
+        "is_check": "(netlist, thing)",
+        "need_clock": "(netlist, clock)",
+        "checks_of": "(netlist)",
+        "delays_of": "(netlist, path, *, corner=0)",
+        "slack_along": "(netlist, clock, path, *, side='late', corner=0)",
+        "rows_of": "(netlist, clock, check, *, up_to=20)",
+        "worst": "(netlist, clock, check)",
+        "slacks_of": "(netlist, clock, *, corner=None)",
+        "least_of": "(netlist, clock, *, side=None, corner=None)",
+        "failing": "(netlist, clock, *, under=0)",
+        "period_needed": "(netlist, skews)",
+    },
+    "skew": {
+        "rules_of": "(netlist)",
+        "number_of": "(netlist, rule, *, period)",
+        "are_skews": "(netlist, thing)",
+        "is_ring": "(netlist, thing)",
+        "mean_of": "(netlist, ring, *, period)",
+        "slack_by": "(netlist, skews, *, period)",
+        "best_slack": "(netlist, *, period)",
+        "least_period": "(netlist)",
+        "best_paper": "(netlist, *, period)",
+        "period_paper": "(netlist)",
+        "check_best": "(netlist, paper, *, period)",
+        "check_period": "(netlist, paper)",
+    },
 }
 
 VALUES = {
@@ -63,6 +102,8 @@ VALUES = {
     "netlist": {"KINDS": ("not", "and", "nand", "or", "nor", "xor"), "MOST_PATHS": 60},
     "showing": {"LINE": "\n"},
     "reading": {"FIRST": 1},
+    "slack": {"SIDES": ("early", "late"), "MOST_ROWS": 20},
+    "skew": {"MOST_PERIOD": 99999},
 }
 
 

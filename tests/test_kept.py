@@ -1,14 +1,20 @@
 import copy
 import unittest
 
-from gateslack.errors import BadFilling, BadNetlist, BadText, NoEnd, NoSignal
+from gateslack.errors import BadCheck, BadClock, BadFilling, BadNetlist, BadPaper, BadPath, BadText, NoEnd, NoSignal
 from gateslack.netlist import cone_of, corners_of, ends_of, fed_by, is_netlist, is_path, many_paths, need_netlist
 from gateslack.netlist import order_of, paths_of, pins_of, starts_of
 from gateslack.reading import cases_in, clock_in, edit_in, edits_in, filling_in, netlist_in, path_in, ring_in
 from gateslack.showing import cases_text, clock_text, edit_text, edits_text, filling_text, netlist_text, ring_text
+from gateslack.skew import are_skews, best_paper, best_slack, check_best, check_period, is_ring, least_period
+from gateslack.skew import mean_of, number_of, period_paper, rules_of, slack_by
+from gateslack.slack import checks_of, delays_of, failing, is_check, is_clock, least_of, need_clock, period_needed
+from gateslack.slack import rows_of, slack_along, slacks_of, worst
+from gateslack.truth import are_cases, cases_of, does_open, is_true, need_cases, opening, openings, side_pins
+from gateslack.truth import true_paths
 from gateslack.values import decided_of, filling_for, fillings, hangs_on, need_filling, table_of, unlike_by
 from gateslack.words import is_name, is_whole, number_in
-from samples import BACKWARD, D, GOOD, SIXTY, random_netlist
+from samples import BACKWARD, D, GOOD, SIXTY, THREE, random_netlist
 
 
 def all_told(netlist):
@@ -21,7 +27,7 @@ def all_told(netlist):
     told += [paths_of(netlist, start=start) for start in starts_of(netlist)]
     told += [paths_of(netlist, end=end) for end in ends_of(netlist)]
     told += [is_path(netlist, path) for path in paths_of(netlist)]
-    return told + texts_told(netlist) + values_told(netlist)
+    return told + texts_told(netlist) + values_told(netlist) + truth_told(netlist) + slacks_told(netlist)
 
 
 def texts_told(netlist):
@@ -40,9 +46,33 @@ def values_told(netlist):
     return told + [decided_of(netlist, filling) for filling in fillings(netlist)]
 
 
+def truth_told(netlist):
+    """All that is told of which PATHS are TRUE."""
+    told = [true_paths(netlist)]
+    for path in paths_of(netlist):
+        told += [ask(netlist, path) for ask in (side_pins, openings, opening, is_true, cases_of)]
+        told += [does_open(netlist, path, filling) for filling in fillings(netlist)[:3]]
+        told.append(are_cases(netlist, path, cases_of(netlist, path)))
+    return told
+
+
+def slacks_told(netlist):
+    """What is told of SLACKS and SKEWS by a CLOCK."""
+    clock = (20, tuple([3] * len(netlist[2])))
+    told = [is_clock(netlist, clock), slacks_of(netlist, clock), least_of(netlist, clock), failing(netlist, clock)]
+    told += [rows_of(netlist, clock, check) for check in checks_of(netlist)]
+    told += [worst(netlist, clock, check) for check in checks_of(netlist)]
+    told += [(delays_of(netlist, path), slack_along(netlist, clock, path)) for path in paths_of(netlist)]
+    told += [period_needed(netlist, clock[1]), rules_of(netlist), best_slack(netlist, period=20), least_period(netlist)]
+    told += [number_of(netlist, rule, period=20) for rule in rules_of(netlist)]
+    best = best_paper(netlist, period=20)
+    told += [best, check_best(netlist, best, period=20), slack_by(netlist, best[0], period=20)]
+    return told + [period_paper(netlist), check_period(netlist, period_paper(netlist))]
+
+
 class HandedInTest(unittest.TestCase):
     def test_a_netlist_is_not_changed(self):
-        for netlist in (GOOD, BACKWARD, SIXTY, random_netlist(7)):
+        for netlist in (GOOD, BACKWARD, SIXTY, THREE, random_netlist(7)):
             ahead = copy.deepcopy(netlist)
             all_told(netlist)
             self.assertEqual(netlist, ahead)
@@ -96,6 +126,27 @@ class HandedInTest(unittest.TestCase):
                     read(thing)
             self.assertEqual(thing, ahead)
 
+    def test_no_papers_are_not_changed(self):
+        path = ("a", "g", "h", "r")
+        for thing in (["late", "r", 0], [path], {"a": [path]}, (["cut", "g", "a"],), ([0, 1], [0, 1]), [[], []]):
+            ahead = copy.deepcopy(thing)
+            for error, ask in (
+                (BadPath, lambda: is_true(GOOD, thing)),
+                (BadPaper, lambda: need_cases(GOOD, path, thing)),
+                (BadClock, lambda: need_clock(GOOD, thing)),
+                (BadCheck, lambda: worst(GOOD, (5, (0, 0)), thing)),
+                (BadClock, lambda: period_needed(GOOD, thing)),
+                (BadPaper, lambda: number_of(GOOD, thing, period=5)),
+                (BadPaper, lambda: mean_of(GOOD, thing, period=5)),
+                (BadClock, lambda: slack_by(GOOD, thing, period=5)),
+                (BadPaper, lambda: check_best(GOOD, thing, period=5)),
+                (BadPaper, lambda: check_best(GOOD, (((0, 1), (0, 1)), thing), period=5)),
+                (BadPaper, lambda: check_period(GOOD, thing)),
+            ):
+                self.assertRaises(error, ask)
+            self.assertEqual((are_skews(GOOD, thing), is_ring(GOOD, thing), is_check(GOOD, thing)), (False,) * 3)
+            self.assertEqual(thing, ahead)
+
     def test_what_is_shown_is_not_changed(self):
         cut = ("cut", "g", "b")
         for show, thing in (
@@ -131,7 +182,7 @@ class HandedInTest(unittest.TestCase):
 
 class ToldTest(unittest.TestCase):
     def test_asked_again_the_same_is_told(self):
-        for netlist in (GOOD, BACKWARD, SIXTY, random_netlist(7)):
+        for netlist in (GOOD, BACKWARD, SIXTY, THREE, random_netlist(7)):
             self.assertEqual(all_told(netlist), all_told(netlist))
 
     def test_a_told_list_is_the_askers_own(self):
@@ -141,6 +192,10 @@ class ToldTest(unittest.TestCase):
             lambda: fed_by(GOOD, "a"),
             lambda: fillings(GOOD),
             lambda: hangs_on(GOOD, "k"),
+            lambda: checks_of(GOOD),
+            lambda: rows_of(GOOD, (5, (0, 0)), ("late", "o", 0)),
+            lambda: failing(GOOD, (5, (0, 0))),
+            lambda: rules_of(GOOD),
         ):
             told = ask()
             ahead = list(told)

@@ -4,9 +4,8 @@ import unittest
 from gateslack.errors import BadFilling, NoSignal
 from gateslack.netlist import MOST_STARTS, order_of, starts_of
 from gateslack.values import decided_of, filling_for, fillings, hangs_on, need_filling, table_of, unlike_by
-from samples import BACKWARD, D, Equal, GOOD, SIXTY, deep, no_names, no_tuples, no_wholes, random_netlist
-
-NO_GATES = (("a", "b"), (), (("r", "a", 0, 0, 0, 0),), ())
+from bywords import decided_by_words, value_by_words
+from samples import BACKWARD, D, Equal, GOOD, NO_GATES, SIXTY, deep, no_names, no_tuples, no_wholes, random_netlist
 
 # The values of each KIND by as many FILLINGS as there are, as these rise.
 TABLES = {
@@ -27,35 +26,6 @@ TABLES = {
 def one_gate(kind, many):
     names = ("a", "b", "c")[:many]
     return (names, (("g", kind, names, D),), (), (("o", "g"),))
-
-
-def value_by_words(netlist, name, values):
-    """The value of a signal by the words of [3] and a FILLING, a START's value by its name."""
-    if name in values:
-        return values[name]
-    _, kind, pins, _ = [gate for gate in netlist[1] if gate[0] == name][0]
-    ones = [value_by_words(netlist, pin, values) for pin in pins].count(1)
-    return {
-        "not": int(ones == 0),
-        "and": int(ones == len(pins)),
-        "nand": int(ones < len(pins)),
-        "or": int(ones > 0),
-        "nor": int(ones == 0),
-        "xor": int(ones in (1, 3)),
-    }[kind]
-
-
-def decided_by_words(netlist, name, told):
-    """What a signal is DECIDED to be: one PIN's values tell nothing of another one's."""
-    if name in told:
-        return told[name]
-    _, kind, pins, _ = [gate for gate in netlist[1] if gate[0] == name][0]
-    values = [decided_by_words(netlist, pin, told) for pin in pins]
-    found = set()
-    for filled in itertools.product(*[(0, 1) if value is None else (value,) for value in values]):
-        own = (pins, ((name, kind, pins, D),), (), ())
-        found.add(value_by_words(own, name, dict(zip(pins, filled))))
-    return found.pop() if len(found) == 1 else None
 
 
 def signals(netlist):
