@@ -12,10 +12,10 @@ LEAST_OF_PATH = 2
 class Line:
     """The words of one line, taken one behind the other."""
 
-    def __init__(self, number, words):
+    def __init__(self, number, words, taken=0):
         self.number = number
         self.words = words
-        self.taken = 0
+        self.taken = taken
 
     def ahead(self):
         """The next word; None behind the last one."""
@@ -25,6 +25,10 @@ class Line:
         """None where the next word, or that there is none, is so; else BadText of it."""
         if not is_so:
             raise BadText(self.number, self.taken + 1)
+
+    def need_end(self):
+        """None behind the last word; else BadText of the next one."""
+        self.need(self.ahead() is None)
 
     def take_one_of(self, words):
         """The next word, which is to be one of these."""
@@ -235,19 +239,23 @@ def read_ring(line):
     return tuple(rules)
 
 
+def words_in(row):
+    """The words of a text that is taken as one line."""
+    # Blanks that stand together part no empty words.
+    return [word for word in row.split(" ") if word]
+
+
 def lines_of(text, first):
     """All lines of a text, numbered from first, those without words too."""
     if type(text) is not str:
         raise BadText(0, 0)
-    rows = text.split("\n")
-    # Blanks that stand together part no empty words.
-    return [Line(first + at, [word for word in row.split(" ") if word]) for at, row in enumerate(rows)]
+    return [Line(first + at, words_in(row)) for at, row in enumerate(text.split("\n"))]
 
 
 def whole_of(line, read):
     """What one line says, and nothing behind it."""
     thing = read(line)
-    line.need(line.ahead() is None)
+    line.need_end()
     return thing
 
 

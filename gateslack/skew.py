@@ -118,7 +118,7 @@ def are_skews(netlist, thing):
 
 def place_in_ring(netlist, thing):
     """The PLACE of what isn't so in anything, None of a RING."""
-    if type(thing) is not tuple or not thing:
+    if type(thing) is not tuple:
         return ()
     rules = rules_of(netlist)
     for number, rule in enumerate(thing):
@@ -128,6 +128,7 @@ def place_in_ring(netlist, thing):
     for number, (ahead, behind) in enumerate(zip(xs, xs[1:] + xs[:1])):
         if ahead[1] != behind[0]:
             return (number,)
+    # An empty one has none of a PATH either.
     return None if any([of_path(rule) for rule in thing]) else ()
 
 
@@ -213,12 +214,12 @@ def all_xs(netlist):
     return [GROUND, *names_of(netlist[2])]
 
 
-def one_step_more(ways, steps):
+def one_step_more(ways, steps, xs):
     """By two X, the least way from one to the other that is one of these and a step behind it."""
     longer = {}
     for first, middle in ways:
-        for start, second in steps:
-            if start == middle:
+        for second in xs:
+            if (middle, second) in steps:
                 way = joined(ways[first, middle], steps[middle, second])
                 longer[first, second] = min(longer.get((first, second), way), way)
     return longer
@@ -228,14 +229,15 @@ def best_by(netlist, rules, period):
     """(BEST SLACK, a RING of which it is the MEAN), (None, None) without RULES of PATHS."""
     steps = least_steps(netlist, rules, period)
     ways = steps
+    xs = all_xs(netlist)
     mean, ring = None, None
     # A ring of more steps than there are X comes to one twice, and a part of it has no greater MEAN.
-    for many in range(1, len(all_xs(netlist)) + 1):
+    for many in range(1, len(xs) + 1):
         for first, second in ways:
             total, around = ways[first, second]
             if first == second and (mean is None or total * mean[1] < mean[0] * many):
                 mean, ring = fraction_of(total, many), around
-        ways = one_step_more(ways, steps)
+        ways = one_step_more(ways, steps, xs)
     return (mean, ring)
 
 
@@ -322,7 +324,7 @@ def check_best(netlist, paper, *, period):
     if not are_skews(netlist, skews):
         raise BadPaper((0,))
     slack = slack_by(netlist, skews, period=period)
-    shown = None if slack is None and ring is None else need_mean(netlist, ring, period, 1)
+    shown = None if ring is None else need_mean(netlist, ring, period, 1)
     if shown != slack:
         raise BadPaper((1,))
     return slack

@@ -184,8 +184,6 @@ def failing(netlist, clock, *, under=0):
 
 def period_needed(netlist, skews):
     """The PERIOD NEEDED by a CLOCK's SKEWS; BadClock of what are none."""
-    if not are_clock_skews(netlist, skews):
-        raise BadClock()
     least = least_of(netlist, (1, skews), side="late")
     # A LATE SLACK grows with the PERIOD, by as much.
     return 1 if least is None else max(1, 1 - least[0])

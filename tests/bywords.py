@@ -166,3 +166,52 @@ def all_rules(netlist, paths):
     for path in paths:
         found += [(side, path, corner) for side in sides(netlist, path[-1]) for corner in corners(netlist)]
     return sorted(found)
+
+
+def arrivals_by_words(netlist, clock, name, corner):
+    """ARRIVALS by the words of [7]."""
+    if name in starts(netlist):
+        skew = dict(zip([row[0] for row in netlist[2]], clock[1])).get(name, 0)
+        return (skew, skew)
+    _, _, pins, delays = gate_of(netlist, name)
+    pairs = [arrivals_by_words(netlist, clock, pin, corner) for pin in pins]
+    early, late = delays[corner]
+    return (min(pair[0] for pair in pairs) + early, max(pair[1] for pair in pairs) + late)
+
+
+def all_arrivals(netlist, clock):
+    """ARRIVALS of all STARTS and GATES, at all CORNERS, by their NAMES."""
+    names = starts(netlist) + [gate[0] for gate in netlist[1]]
+    return {name: [arrivals_by_words(netlist, clock, name, at) for at in corners(netlist)] for name in names}
+
+
+def edited_by_words(netlist, clock, edit):
+    """(NETLIST, CLOCK) as an EDIT makes them, whether they are any or not."""
+    inputs, gates, registers, outputs = [list(rows) for rows in netlist]
+    period, skews = clock[0], list(clock[1])
+    if edit[0] == "period":
+        period = edit[1]
+    elif edit[0] == "skew":
+        skews[[row[0] for row in registers].index(edit[1])] = edit[2]
+    for rows in (gates, registers, outputs):
+        for at, row in enumerate(rows):
+            if len(edit) > 2 and row[0] == edit[1]:
+                if edit[0] == "delays":
+                    rows[at] = (*row[:3], edit[2])
+                elif edit[0] == "gate":
+                    rows[at] = (row[0], edit[2], edit[3], row[3])
+                elif edit[0] == "data":
+                    rows[at] = (row[0], edit[2], *row[2:])
+                elif edit[0] == "checks":
+                    rows[at] = (*row[:2], *edit[2:])
+    return (tuple(inputs), tuple(gates), tuple(registers), tuple(outputs)), (period, tuple(skews))
+
+
+def reckoned_by_words(order, ahead, behind, edit):
+    """The GATES RECKONED, in ORDER, by all (NETLIST, ARRIVALS) ahead and behind."""
+    found = []
+    for name in order:
+        others = any(ahead[pin] != behind[1][pin] for pin in gate_of(behind[0], name)[2])
+        if others or (edit[0] in ("delays", "gate") and edit[1] == name):
+            found.append(name)
+    return tuple(found)

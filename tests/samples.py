@@ -17,6 +17,9 @@ GOOD = (
     (("o", "k"), ("p", "a")),
 )
 
+# Of GOOD.
+CLOCK = (100, (5, -7))
+
 # As text, GOOD.
 LINES = [
     "input a",
@@ -140,6 +143,30 @@ def no_wholes():
     return [thing for thing in no_texts() if type(thing) is not int] + ["0", "1", "", "a"]
 
 
+def no_clocks():
+    """Things that are no CLOCKS of GOOD."""
+    others = no_tuples() + [(), (5,), (5, (0, 0), 0), [5, (0, 0)], (5, [0, 0]), (5, ()), (5, (0,)), (5, (0, 0, 0))]
+    others += [(period, (0, 0)) for period in no_wholes() + [0, -1, 100000, 10**5000]]
+    for skew in no_wholes() + [10000, -10000, 10**5000, -(10**5000), None]:
+        others += [(5, (skew, 0)), (5, (0, skew))]
+    return others + [((5, (0, 0)),), (5, 0, 0), (Equal(), (0, 0)), (5, (Equal(), 0)), (5, Equal()), deep()]
+
+
+def no_corners():
+    """Things that are no CORNERS of GOOD."""
+    return no_wholes() + [-1, 2, 99, 10**5000, -(10**5000), "0", (0,)]
+
+
+def no_checks():
+    """Things that are no CHECKS of GOOD."""
+    others = no_tuples() + [(), ("late", "r"), ("late", "r", 0, 0), ["late", "r", 0], deep(), ("r", "late", 0)]
+    others += [("early", "o", 0), ("early", "p", 1), ("late", "a", 0), ("late", "g", 0), ("late", "zzzz", 0)]
+    others += [(side, "r", 0) for side in no_names() + ["lately", "rarely", "r"]]
+    others += [("late", end, 0) for end in no_names()]
+    others += [("late", "r", corner) for corner in no_corners()]
+    return others + [(Equal(), "r", 0), ("late", Equal(), 0), ("late", "r", Equal()), (Equal(),) * 3]
+
+
 def random_netlist(seed):
     """Parts put together by a seed, each GATE fed by STARTS and those made ahead of it, then shuffled."""
     dice = random.Random(seed)
@@ -199,3 +226,25 @@ def some_netlists(many=40):
     """NETLISTS of many kinds."""
     named = [GOOD, BACKWARD, SIXTY, NO_TRUE, HALF_TRUE, NO_GATES, NO_REGISTERS, NO_ENDS, THREE, SIX_STARTS]
     return named + [random_clocked(seed) for seed in range(many)]
+
+
+def random_edit(netlist, dice):
+    """One of the six EDITS by chance, which may be refused as no NETLIST."""
+    words = ["delays", "gate"] * bool(netlist[1]) + ["data"] * bool(netlist[2] + netlist[3])
+    word = dice.choice(words + ["checks", "skew"] * bool(netlist[2]) + ["period"])
+    signals = [*netlist[0], *[row[0] for row in netlist[2]], *[gate[0] for gate in netlist[1]]]
+    corners = len(netlist[1][0][3]) if netlist[1] else 1
+    if word == "delays":
+        delays = tuple(tuple(sorted((dice.randint(0, 40), dice.randint(0, 40)))) for _ in range(corners))
+        return (word, dice.choice(netlist[1])[0], delays)
+    if word == "gate":
+        kind = dice.choice(("not", "and", "nand", "or", "nor", "xor") if len(signals) > 1 else ("not",))
+        pins = 1 if kind == "not" else min(len(signals), dice.randint(2, 3))
+        return (word, dice.choice(netlist[1])[0], kind, tuple(dice.sample(signals, pins)))
+    if word == "data":
+        return (word, dice.choice(netlist[2] + netlist[3])[0], dice.choice(signals))
+    if word == "checks":
+        return (word, dice.choice(netlist[2])[0], dice.randint(0, 9), dice.randint(0, 9), -dice.randint(0, 9), 5)
+    if word == "skew":
+        return (word, dice.choice(netlist[2])[0], dice.randint(-40, 40))
+    return (word, dice.randint(1, 99))

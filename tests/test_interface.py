@@ -95,6 +95,52 @@ SIGNATURES = {
         "check_best": "(netlist, paper, *, period)",
         "check_period": "(netlist, paper)",
     },
+    "papers": {
+        "slack_paper": "(netlist, clock, check)",
+        "check_slack": "(netlist, clock, check, paper)",
+        "report_paper": "(netlist, clock)",
+        "check_report": "(netlist, clock, report)",
+    },
+    "bench": {
+        "Bench": "(netlist, clock)",
+    },
+    "likeness": {
+        "renamed": "(netlist, names)",
+        "regated": "(netlist, order)",
+        "repinned": "(netlist, gate)",
+        "halved": "(netlist, gate, name)",
+        "turned": "(netlist, gate, name)",
+        "unlike_end": "(netlist, other)",
+    },
+    "desk": {
+        "Desk": "(netlist, clock)",
+        "all_said": "(lines, *, netlist, clock)",
+    },
+}
+
+METHODS = {
+    ("bench", "Bench"): {
+        "edit": "(self, edit)",
+        "attempt": "(self, edits, *, whole=True)",
+        "back": "(self)",
+        "edits": "(self)",
+        "log": "(self)",
+        "netlist": "(self)",
+        "clock": "(self)",
+        "arrivals": "(self, name, *, corner=0)",
+        "worst": "(self, check)",
+        "slacks": "(self)",
+        "failing": "(self, *, under=0)",
+        "changed": "(self)",
+        "twin": "(self)",
+        "__len__": "(self)",
+        "__eq__": "(self, other)",
+    },
+    ("desk", "Desk"): {
+        "said": "(self, line)",
+        "bench": "(self)",
+        "__len__": "(self)",
+    },
 }
 
 VALUES = {
@@ -116,6 +162,11 @@ class InterfaceTest(unittest.TestCase):
                 self.assertEqual(function.__module__, module.__name__)
                 self.assertEqual(str(inspect.signature(function)), signature, name)
 
+    def test_methods_stand_in_their_classes(self):
+        for (file, name), methods in METHODS.items():
+            own = vars(getattr(importlib.import_module(f"gateslack.{file}"), name))
+            for method, signature in methods.items():
+                self.assertEqual(str(inspect.signature(own[method])), signature, method)
 
     def test_values_stand_where_they_are_listed(self):
         for file, values in VALUES.items():

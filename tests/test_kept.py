@@ -1,9 +1,14 @@
 import copy
 import unittest
 
-from gateslack.errors import BadCheck, BadClock, BadFilling, BadNetlist, BadPaper, BadPath, BadText, NoEnd, NoSignal
+from gateslack.bench import Bench
+from gateslack.desk import all_said
+from gateslack.errors import BadCheck, BadClock, BadEdit, BadFilling, BadNetlist, BadPaper, BadPath, BadText
+from gateslack.errors import NoEnd, NoSignal
+from gateslack.likeness import halved, regated, renamed, repinned, turned, unlike_end
 from gateslack.netlist import cone_of, corners_of, ends_of, fed_by, is_netlist, is_path, many_paths, need_netlist
 from gateslack.netlist import order_of, paths_of, pins_of, starts_of
+from gateslack.papers import check_report, check_slack, report_paper, slack_paper
 from gateslack.reading import cases_in, clock_in, edit_in, edits_in, filling_in, netlist_in, path_in, ring_in
 from gateslack.showing import cases_text, clock_text, edit_text, edits_text, filling_text, netlist_text, ring_text
 from gateslack.skew import are_skews, best_paper, best_slack, check_best, check_period, is_ring, least_period
@@ -27,7 +32,8 @@ def all_told(netlist):
     told += [paths_of(netlist, start=start) for start in starts_of(netlist)]
     told += [paths_of(netlist, end=end) for end in ends_of(netlist)]
     told += [is_path(netlist, path) for path in paths_of(netlist)]
-    return told + texts_told(netlist) + values_told(netlist) + truth_told(netlist) + slacks_told(netlist)
+    told += texts_told(netlist) + values_told(netlist) + truth_told(netlist) + slacks_told(netlist)
+    return told + papers_told(netlist) + put_otherwise(netlist) + bench_told(netlist)
 
 
 def texts_told(netlist):
@@ -68,6 +74,37 @@ def slacks_told(netlist):
     best = best_paper(netlist, period=20)
     told += [best, check_best(netlist, best, period=20), slack_by(netlist, best[0], period=20)]
     return told + [period_paper(netlist), check_period(netlist, period_paper(netlist))]
+
+
+def papers_told(netlist):
+    """SLACK PAPERS and a REPORT, and what they show."""
+    clock = (20, tuple([3] * len(netlist[2])))
+    papers = {check: slack_paper(netlist, clock, check) for check in checks_of(netlist)}
+    told = [papers, [check_slack(netlist, clock, check, papers[check]) for check in papers]]
+    return told + [report_paper(netlist, clock), check_report(netlist, clock, report_paper(netlist, clock))]
+
+
+def put_otherwise(netlist):
+    """NETLISTS put otherwise."""
+    names = {name: f"{name}x" for name in [*netlist[0], *[row[0] for rows in netlist[1:] for row in rows]]}
+    told = [renamed(netlist, names), regated(netlist, order_of(netlist)), unlike_end(netlist, netlist)]
+    for name, kind, pins, _ in netlist[1]:
+        told.append(repinned(netlist, name))
+        told += [halved(netlist, name, "zzzz")] if len(pins) == 3 else []
+        told += [turned(netlist, name, "zzzz")] if kind in ("and", "or", "nand", "nor") else []
+    return told
+
+
+def bench_told(netlist):
+    """What a bench and a desk tell by some EDITS and lines."""
+    clock = (20, tuple([3] * len(netlist[2])))
+    bench = Bench(netlist, clock)
+    told = [bench.attempt((("period", 30), ("period", 40))), bench.changed(), bench.back(), bench.edits(), bench.log()]
+    told += [bench.slacks(), bench.failing(under=30), len(bench), len(bench.twin()), bench == bench.twin()]
+    told += [bench.netlist(), bench.clock(), bench.arrivals(starts_of(netlist)[0])]
+    lines = ["period 7", "all period 5 ; period 4", "edits", "changed", "slacks", "failing"]
+    lines += ["best", "ring", "skews", "least"]
+    return told + all_said(lines, netlist=netlist_text(netlist), clock=clock_text(clock))
 
 
 class HandedInTest(unittest.TestCase):
@@ -146,6 +183,37 @@ class HandedInTest(unittest.TestCase):
                 self.assertRaises(error, ask)
             self.assertEqual((are_skews(GOOD, thing), is_ring(GOOD, thing), is_check(GOOD, thing)), (False,) * 3)
             self.assertEqual(thing, ahead)
+
+    def test_what_a_bench_refuses_is_not_changed(self):
+        bench = Bench(GOOD, (5, (0, 0)))
+        for error, edit in (
+            (BadEdit, ["period", 5]),
+            (BadEdit, {"period": 5}),
+            (BadEdit, (["period"], 5)),
+            (BadClock, ("period", [5])),
+            (BadClock, ("skew", "r", [5])),
+            (BadNetlist, ("delays", "g", [(1, 2), (1, 2)])),
+            (BadNetlist, ("delays", "g", ([1, 2], [1, 2]))),
+            (BadNetlist, ("gate", "g", "and", ["a", "b"])),
+            (BadNetlist, ("data", "r", ["g"])),
+        ):
+            ahead = copy.deepcopy(edit)
+            self.assertRaises(error, bench.edit, edit)
+            self.assertRaises(error, bench.attempt, (edit,))
+            self.assertRaises(BadEdit, bench.attempt, [edit])
+            self.assertEqual(edit, ahead)
+        self.assertEqual(bench.edits(), [])
+
+    def test_names_and_lines_are_not_changed_or_kept(self):
+        names = {name: f"{name}x" for name in "abrsghkop"}
+        lines = ["period 5", "back", "back"]
+        ahead = (dict(names), list(lines))
+        other = renamed(GOOD, names)
+        answers = all_said(lines, netlist=netlist_text(GOOD), clock="clock 5 0 0")
+        self.assertEqual((names, lines), ahead)
+        names.clear()
+        lines.clear()
+        self.assertEqual((other[0], answers[1:]), (("ax", "bx"), ["period 5", "nothing done"]))
 
     def test_what_is_shown_is_not_changed(self):
         cut = ("cut", "g", "b")

@@ -107,6 +107,9 @@ class RefusingTest(unittest.TestCase):
                 lambda: number_of(PAIR, 5, period=period),
                 lambda: mean_of(PAIR, 5, period=period),
                 lambda: slack_by(PAIR, 5, period=period),
+                lambda: slack_by(PAIR, ((0, 1), (0, 1)), period=period),
+                lambda: number_of(PAIR, ("low", "r"), period=period),
+                lambda: mean_of(PAIR, ROUND, period=period),
                 lambda: best_slack(PAIR, period=period),
                 lambda: best_paper(PAIR, period=period),
                 lambda: check_best(PAIR, 5, period=period),
@@ -228,6 +231,9 @@ class SkewsTest(RefusingTest):
             ((-1, 10**400), (10**400 - 1, 10**400)),
         ):
             self.assertIs(are_skews(netlist=PAIR, thing=skews), True)
+        self.assertIs(are_skews(NO_GATES, ((0, 1),)), True)
+        for skew_of_0 in ((0, -1), (0, 0), (0, 2)):
+            self.assertIs(are_skews(NO_GATES, (skew_of_0,)), False)
         self.assertIs(are_skews(NO_REGISTERS, ()), True)
         self.assertIs(are_skews(NO_REGISTERS, ((0, 1),)), False)
 
@@ -345,6 +351,9 @@ class BestTest(RefusingTest):
             self.need_bad_paper((1,), lambda: check_best(NO_TRUE, (skews, (("low", "r"), ("high", "r"))), period=3))
             self.need_bad_paper((1, 0), lambda: check_best(NO_TRUE, (skews, (("late", ("r", "o"), 0),)), period=3))
         self.need_bad_paper((0,), lambda: check_best(NO_TRUE, (((11, 2),), None), period=3))
+        netlist = (*NO_TRUE[:3], ())
+        self.assertIsNone(check_best(netlist, best_paper(netlist, period=3), period=3))
+        self.assertEqual(check_period(netlist, period_paper(netlist)), 1)
 
 
 class PeriodTest(RefusingTest):
@@ -398,6 +407,13 @@ class PeriodTest(RefusingTest):
         papers += [((2, *place), (None, None, thing)) for place, thing in no_rings()[::5]]
         for place, paper in papers:
             self.need_bad_paper(place, lambda: check_period(PAIR, paper))
+
+    def test_a_mean_of_0_is_not_below_0(self):
+        period, skews, ring = period_paper(NO_REGISTERS)
+        self.assertEqual((period, mean_of(NO_REGISTERS, ring, period=9)), (9, (0, 1)))
+        self.need_bad_paper((2,), lambda: check_period(NO_REGISTERS, (10, skews, ring)))
+        ring = (("early", ("a", "r"), 0), ("low", "r"))
+        self.need_bad_paper((2,), lambda: check_period(NO_GATES, (None, None, ring)))
 
     def test_a_period_of_one(self):
         ring = (("late", ("a", "r"), 0), ("high", "r"))

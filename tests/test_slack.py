@@ -6,37 +6,13 @@ from gateslack.errors import BadCheck, BadClock, BadPath, NoCorner
 from gateslack.netlist import paths_of
 from gateslack.slack import MOST_ROWS, SIDES, checks_of, delays_of, failing, is_check, is_clock, least_of, need_clock
 from gateslack.slack import period_needed, rows_of, slack_along, slacks_of, worst
-from samples import D, Equal, GOOD, HALF_TRUE, NO_ENDS, NO_GATES, NO_REGISTERS, NO_TRUE, SIXTY, SIX_STARTS, THREE
-from samples import deep, no_names, no_tuples, no_wholes, random_clock, some_netlists
+from samples import CLOCK, D, Equal, GOOD, HALF_TRUE, NO_ENDS, NO_GATES, NO_REGISTERS, NO_TRUE, SIXTY, SIX_STARTS
+from samples import THREE, deep, no_checks, no_clocks, no_corners, no_names, no_tuples, no_wholes, random_clock
+from samples import some_netlists
 
-CLOCK = (100, (5, -7))
 AROUND = ("r", "g", "h", "r")
 # No GATE ahead of o: all of its SLACKS are alike.
 ALIKE = (("a", "b"), (("g", "xor", ("a", "b"), ((4, 4), (4, 4))),), (), (("o", "g"), ("p", "g")))
-
-
-def no_clocks():
-    """Things that are no CLOCKS of GOOD."""
-    others = no_tuples() + [(), (5,), (5, (0, 0), 0), [5, (0, 0)], (5, [0, 0]), (5, ()), (5, (0,)), (5, (0, 0, 0))]
-    others += [(period, (0, 0)) for period in no_wholes() + [0, -1, 100000, 10**5000]]
-    for skew in no_wholes() + [10000, -10000, 10**5000, -(10**5000), None]:
-        others += [(5, (skew, 0)), (5, (0, skew))]
-    return others + [((5, (0, 0)),), (5, 0, 0), (Equal(), (0, 0)), (5, (Equal(), 0)), (5, Equal()), deep()]
-
-
-def no_corners(netlist):
-    """Things that are no CORNERS."""
-    return no_wholes() + [-1, len(corners(netlist)), 99, 10**5000, -(10**5000), "0", (0,)]
-
-
-def no_checks():
-    """Things that are no CHECKS of GOOD."""
-    others = no_tuples() + [(), ("late", "r"), ("late", "r", 0, 0), ["late", "r", 0], deep(), ("r", "late", 0)]
-    others += [("early", "o", 0), ("early", "p", 1), ("late", "a", 0), ("late", "g", 0), ("late", "zzzz", 0)]
-    others += [(side, "r", 0) for side in no_names() + ["lately", "rarely", "r"]]
-    others += [("late", end, 0) for end in no_names()]
-    others += [("late", "r", corner) for corner in no_corners(GOOD)]
-    return others + [(Equal(), "r", 0), ("late", Equal(), 0), ("late", "r", Equal()), (Equal(),) * 3]
 
 
 class RefusingTest(unittest.TestCase):
@@ -160,7 +136,7 @@ class AlongTest(RefusingTest):
             self.need_refused(BadCheck, lambda: slack_along(GOOD, CLOCK, path, side="early", corner=9))
 
     def test_no_corners(self):
-        for corner in no_corners(GOOD):
+        for corner in no_corners():
             self.need_no_corner(corner, lambda: delays_of(GOOD, AROUND, corner=corner))
             self.need_no_corner(corner, lambda: slack_along(GOOD, CLOCK, AROUND, corner=corner))
         self.need_no_corner(1, lambda: delays_of(NO_GATES, ("a", "r"), corner=1))
@@ -277,7 +253,7 @@ class SlacksTest(RefusingTest):
                 self.assertEqual(failing(netlist, clock, under=under), own)
 
     def test_no_corners(self):
-        for corner in no_corners(GOOD):
+        for corner in no_corners():
             if corner is not None:
                 self.need_no_corner(corner, lambda: slacks_of(GOOD, CLOCK, corner=corner))
                 self.need_no_corner(corner, lambda: least_of(GOOD, CLOCK, corner=corner))
